@@ -10,6 +10,7 @@ import (
 
 	"cobweb/api"
 	"cobweb/letter"
+	"cobweb/samples"
 )
 
 // broken are bytes that are no rune: each byte counts as one U+FFFD.
@@ -24,23 +25,6 @@ var broken = []struct {
 	{"\xed\xa0\x80", 3}, // half of a pair
 	{"a\xffb", 3},
 	{"\xe2\x82", 2},
-}
-
-// strs are all texts of at most n of the pieces.
-func strs(n int, pieces ...string) []string {
-	out := []string{""}
-	last := out
-	for range n {
-		var next []string
-		for _, s := range last {
-			for _, p := range pieces {
-				next = append(next, s+p)
-			}
-		}
-		out = append(out, next...)
-		last = next
-	}
-	return out
 }
 
 // P1.1
@@ -234,7 +218,7 @@ func TestCompare(t *testing.T) {
 }
 
 func TestCompareIsThatOfRunes(t *testing.T) {
-	all := strs(3, "a", "z", "é", "\uFFFD", "\xff", "\xc3", "😀")
+	all := samples.Texts(3, "a", "z", "é", "\uFFFD", "\xff", "\xc3", "😀")
 	for _, a := range all {
 		for _, b := range all {
 			if got, want := letter.Compare(a, b), slices.Compare([]rune(a), []rune(b)); got != want {
@@ -323,7 +307,7 @@ func fits(s, p []rune) bool {
 }
 
 func TestLikeIsWhatTheWordsSay(t *testing.T) {
-	all := strs(4, "a", "\xff", "*", "?")
+	all := samples.Texts(4, "a", "\xff", "*", "?")
 	for _, s := range all {
 		for _, p := range all {
 			if ok, e := letter.Like(s, p); ok != fits([]rune(s), []rune(p)) || e != api.OK {
@@ -404,10 +388,10 @@ func TestUnquoteOfNoQuote(t *testing.T) {
 // Of all short texts just those are unquoted that some text's Quote is, to that text.
 func TestUnquoteIsQuoteTurnedAbout(t *testing.T) {
 	quoted := map[string]string{}
-	for _, s := range strs(4, `"`, `\`, "\n", "n", "\uFFFD", "a") {
+	for _, s := range samples.Texts(4, `"`, `\`, "\n", "n", "\uFFFD", "a") {
 		quoted[letter.Quote(s)] = s
 	}
-	for _, q := range strs(6, `"`, `\`, "\n", "n", "\uFFFD", "\xff", "a") {
+	for _, q := range samples.Texts(6, `"`, `\`, "\n", "n", "\uFFFD", "\xff", "a") {
 		want, is := quoted[q]
 		got, e := letter.Unquote(q)
 		if is && (got != want || e != api.OK) || !is && (got != "" || e != api.ErrForm) {
@@ -419,7 +403,7 @@ func TestUnquoteIsQuoteTurnedAbout(t *testing.T) {
 // P1.5
 
 func TestThereAndBack(t *testing.T) {
-	all := strs(4, "\"", "\\", "\n", "n", "é", "*", "?", "A")
+	all := samples.Texts(4, "\"", "\\", "\n", "n", "é", "*", "?", "A")
 	all = append(all, strings.Repeat("É", api.MaxText), strings.Repeat("\\", 5000), "\x00\t×÷ÞþĀā😀\uFFFD")
 	for r := rune(0); r <= utf8.MaxRune; r++ {
 		all = append(all, string(r))
