@@ -7,6 +7,7 @@ import (
 
 	"cobweb/api"
 	"cobweb/arena"
+	"cobweb/samples"
 )
 
 const maxRoom = 1 << 20
@@ -606,17 +607,9 @@ func TestAllShortScripts(t *testing.T) {
 	}
 }
 
-// dice are numbers that lie about, the same ones each time.
-func dice(seed uint64) func(n int) int {
-	return func(n int) int {
-		seed = seed*6364136223846793005 + 1442695040888963407
-		return int(seed >> 33 % uint64(n))
-	}
-}
-
 func TestLongScripts(t *testing.T) {
 	for seed := range uint64(40) {
-		roll := dice(seed)
+		roll := samples.Dice(seed)
 		b := bothOf(t, 1+roll(12))
 		for range 400 {
 			switch roll(8) {

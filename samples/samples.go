@@ -17,3 +17,11 @@ func Texts(n int, pieces ...string) []string {
 	}
 	return out
 }
+
+// Dice answers numbers from 0 to below n (above 0) that lie about, the same ones each time.
+func Dice(seed uint64) func(n int) int {
+	return func(n int) int {
+		seed = seed*6364136223846793005 + 1442695040888963407
+		return int(seed >> 33 % uint64(n))
+	}
+}

@@ -16,3 +16,18 @@ func TestTexts(t *testing.T) {
 		t.Errorf("Texts of none of the pieces: %q", got)
 	}
 }
+
+func TestDice(t *testing.T) {
+	one, other := samples.Dice(7), samples.Dice(7)
+	counts := make([]int, 6)
+	for range 6000 {
+		n := one(6)
+		if n != other(6) {
+			t.Fatal("two dice of one seed don't go alike")
+		}
+		counts[n]++
+	}
+	if slices.Min(counts) < 800 {
+		t.Errorf("the numbers don't lie about: %v", counts)
+	}
+}
