@@ -183,25 +183,13 @@ func TestAppendOfEachByte(t *testing.T) {
 	wantAppend(t, d, api.ErrFull, "a")
 }
 
-// cuttings are the ways to hand in some bytes as one to three slices.
-func cuttings(s string) [][]string {
-	out := [][]string{{s}}
-	for i := range len(s) + 1 {
-		out = append(out, []string{s[:i], s[i:]})
-		for j := i; j <= len(s); j++ {
-			out = append(out, []string{s[:i], s[i:j], s[j:]})
-		}
-	}
-	return out
-}
-
 func TestAppendOfJustWhatIsLeftAndOfOneMore(t *testing.T) {
 	const text = "abcdefghij"
 	for room := range 8 {
 		for there := range room + 1 {
 			for safe := range there + 1 {
 				for n := range room - there + 4 {
-					for _, texts := range cuttings(text[there : there+n]) {
+					for _, texts := range samples.Cuttings(text[there : there+n]) {
 						d := holding(t, room, text[:safe], text[safe:there])
 						if there+n > room { // nothing is laid, be the first of them ever so short
 							wantAppend(t, d, api.ErrFull, texts...)

@@ -18,6 +18,18 @@ func Texts(n int, pieces ...string) []string {
 	return out
 }
 
+// Cuttings are the ways to cut a text into one to three pieces, empty ones too.
+func Cuttings(s string) [][]string {
+	out := [][]string{{s}}
+	for i := range len(s) + 1 {
+		out = append(out, []string{s[:i], s[i:]})
+		for j := i; j <= len(s); j++ {
+			out = append(out, []string{s[:i], s[i:j], s[j:]})
+		}
+	}
+	return out
+}
+
 // Dice answers numbers from 0 to below n (above 0) that lie about, the same ones each time.
 func Dice(seed uint64) func(n int) int {
 	return func(n int) int {

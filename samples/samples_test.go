@@ -17,6 +17,16 @@ func TestTexts(t *testing.T) {
 	}
 }
 
+func TestCuttings(t *testing.T) {
+	want := [][]string{{"ab"}, {"", "ab"}, {"", "", "ab"}, {"", "a", "b"}, {"", "ab", ""}, {"a", "b"}, {"a", "", "b"}, {"a", "b", ""}, {"ab", ""}, {"ab", "", ""}}
+	if got := samples.Cuttings("ab"); !slices.EqualFunc(got, want, slices.Equal) {
+		t.Errorf("Cuttings: %q", got)
+	}
+	if got := samples.Cuttings(""); !slices.EqualFunc(got, [][]string{{""}, {"", ""}, {"", "", ""}}, slices.Equal) {
+		t.Errorf("Cuttings of nothing: %q", got)
+	}
+}
+
 func TestDice(t *testing.T) {
 	one, other := samples.Dice(7), samples.Dice(7)
 	counts := make([]int, 6)
